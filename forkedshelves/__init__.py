@@ -1,0 +1,1 @@
+"""Books that are forked and merged under rules."""

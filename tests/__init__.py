@@ -1,0 +1,1 @@
+"""The tests of the program. Run them with `bash .ci/run`."""

@@ -1,0 +1,83 @@
+"""The interface: where its names are defined, and what they are passed."""
+
+import importlib
+import inspect
+import unittest
+
+from forkedshelves.forest import Forest
+from forkedshelves.listed import Ban
+from forkedshelves.nests import Nest
+from forkedshelves.pairs import Apart, Match, Needs, Order
+from forkedshelves.rulebook import RuleBook
+from forkedshelves.sums import AtLeast, AtMost, Total
+
+FUNCTIONS = {
+    "books": {"value_at": ["book", "place"], "with_writes": ["book", "writes"], "changes": ["base", "book"],
+              "holds": ["book", "marks"]},
+    "tight": {"tight_forks": ["rule", "bar"]},
+    "blocks": {"blocks_with": ["depth", "place"], "least_cover": ["depth", "places"]},
+    "compare": {name: ["forest", "first", "second"] for name in ("differing_places", "agreeing_blocks", "looked")},
+    "copying": {"plan_copies": ["forest", "base", "plan"], "expected_copies": ["depth", "groups"]},
+    "touching": {"touched": ["rulebook", "deed"], "independent": ["rulebook", "first", "second"]},
+    "runs": {"play_run": ["rulebook", "book", "run"], "first_run": ["rulebook", "run"], "stages": ["rulebook", "run"]},
+}
+RULE = {"is_bar": ["marks"], "keeps": ["book"], "bars_in": ["book"], "reason": ["book"]}
+CLASSES = {
+    "listed": {"Ban": (["bars"], RULE)},
+    "pairs": {"Apart": (["places"], RULE), "Needs": (["pairs"], RULE),
+              "Match": (["first", "values", "second", "allowed"], RULE), "Order": (["first", "second", "gap"], RULE)},
+    "sums": {"Total": (["places", "high"], RULE), "AtMost": (["places", "many"], RULE),
+             "AtLeast": (["places", "many"], RULE)},
+    "nests": {"Nest": (["places"], RULE)},
+    "rulebook": {"RuleBook": (["rules"], {
+        "__iter__": [], "largest_width": [], "reason": ["book"], "reasons": ["book"], "is_lawful": ["book"],
+        "mates": ["place"], "wide_key": [], "bars_with": ["first", "second"]})},
+    "forest": {"Forest": (["depth"], {
+        "plant": ["leaves"], "write": ["tree", "writes", "stamp"], "merge": ["base", "first", "second"],
+        "fell": ["tree"], "trees": [], "leaves": ["tree"], "book": ["tree"], "parts": ["tree"],
+        "sharers": ["tree", "start", "size"], "part_count": [], "made": []})},
+}
+
+
+def module(name):
+    return importlib.import_module(f"forkedshelves.{name}")
+
+
+class InterfaceTest(unittest.TestCase):
+    def check_function(self, function, arguments, name):
+        self.assertTrue(inspect.isfunction(function), name)
+        self.assertEqual(list(inspect.signature(function).parameters), arguments, name)
+
+    def test_functions_stand_in_their_files(self):
+        for file, functions in FUNCTIONS.items():
+            for name, arguments in functions.items():
+                function = getattr(module(file), name)
+                self.check_function(function, arguments, name)
+                self.assertEqual(function.__module__, f"forkedshelves.{file}")
+
+    def test_classes_stand_in_their_files_and_define_each_method(self):
+        for file, classes in CLASSES.items():
+            for name, (arguments, methods) in classes.items():
+                kind = getattr(module(file), name)
+                self.assertEqual(kind.__module__, f"forkedshelves.{file}")
+                self.check_function(kind.__init__, ["self", *arguments], name)
+                for method, passed in methods.items():
+                    self.assertIn(method, vars(kind), name)
+                    self.check_function(vars(kind)[method], ["self", *passed], f"{name}.{method}")
+
+    def test_rules_have_their_attributes_from_the_beginning(self):
+        rules = [Apart([1, 2]), Needs([(1, 2)]), Match(1, [1], 2, [1]), Order(1, 2, 0), Total([1, 2], 1),
+                 AtMost([1, 2], 1), AtLeast([1, 2], 1), Nest([1, 2]), Ban([[(1, 1), (2, 1)]])]
+        for rule in rules:
+            self.assertEqual(rule.places, (1, 2))
+            self.assertEqual(rule.width, 2)
+
+    def test_objects_of_one_class_do_not_share_what_they_keep(self):
+        forests = [Forest(1), Forest(1)]
+        forests[0].plant([(0, 1, 1)])
+        self.assertEqual([forests[1].trees(), forests[1].made()], [[], 0])
+        self.assertEqual([list(RuleBook([])), len(list(RuleBook([("a", Apart([]))])))], [[], 1])
+
+
+if __name__ == "__main__":
+    unittest.main()
