@@ -18,6 +18,11 @@ def in_bar_order(marks):
     return all(first[0] < second[0] for first, second in zip(marks, marks[1:]))
 
 
+def are_marks_at(marks, places):
+    """Tell whether the marks are one for each of the places, in ascending order."""
+    return [place for place, _ in marks] == sorted(places)
+
+
 def marks_at(book, places):
     """Return the ascending list of the marks that the book holds at the places."""
     return [(place, value_at(book, place)) for place in sorted(places)]

@@ -1,7 +1,7 @@
 """The kind of rules that forbids rings of parents."""
 
 from forkedshelves.books import value_at
-from forkedshelves.marks import check_places, first_bar, in_bar_order, marks_at, shorter_first
+from forkedshelves.marks import check_places, first_bar, marks_at, shorter_first
 
 
 class Nest:
@@ -14,9 +14,8 @@ class Nest:
 
     def is_bar(self, marks):
         """Tell whether the marks are a bar of the rule."""
-        if not marks or not in_bar_order(marks):
-            return False
-        return self._ring(dict(marks), marks[0][0]) == marks
+        # The ring that the marks make has its own marks in order, so marks in another order differ from it.
+        return len(marks) > 0 and self._ring(dict(marks), marks[0][0]) == marks
 
     def bars_in(self, book):
         """Return the bars that the book holds, in their order."""

@@ -4,7 +4,8 @@ from itertools import combinations
 
 from forkedshelves.books import value_at
 from forkedshelves.errors import EmptyChoice, RepeatedPlace
-from forkedshelves.marks import check_places, filled_marks, first_bar, in_bar_order, marks_at, shorter_first
+from forkedshelves.marks import are_marks_at, check_places, filled_marks, first_bar
+from forkedshelves.marks import in_bar_order, marks_at, shorter_first
 
 
 class Apart:
@@ -115,15 +116,11 @@ class Match:
 
     def is_bar(self, marks):
         """Tell whether the marks are a bar of the rule."""
-        first, second = self.places
-        if not in_bar_order(marks) or [mark[0] for mark in marks] != sorted(self.places):
-            return False
-        return value_at(dict(marks), first) in self._values and value_at(dict(marks), second) not in self._allowed
+        return are_marks_at(marks, self.places) and not self.keeps(dict(marks))
 
     def bars_in(self, book):
         """Return the bars that the book holds, in their order."""
-        bar = tuple(marks_at(book, self.places))
-        return [bar] if self.is_bar(bar) else []
+        return [] if self.keeps(book) else [tuple(marks_at(book, self.places))]
 
     def reason(self, book):
         """Return the first bar that the book holds, or None."""
@@ -155,9 +152,7 @@ class Order:
 
     def is_bar(self, marks):
         """Tell whether the marks are a bar of the rule."""
-        if not in_bar_order(marks) or [mark[0] for mark in marks] != sorted(self.places):
-            return False
-        return not self.keeps(dict(marks))
+        return are_marks_at(marks, self.places) and not self.keeps(dict(marks))
 
     def bars_in(self, book):
         """Return the bars that the book holds, in their order."""

@@ -27,9 +27,9 @@ class Total:
         """Tell whether the marks are a bar of the rule."""
         if not marks or not _are_marks_of(self.places, marks):
             return False
+        # Without its least mark a bar keeps the largest sum; and that is less only if no mark has the value 0.
         values = [value for _, value in marks]
-        # Without its least mark a bar has the largest sum that it can have without one of its marks.
-        return min(values) > 0 and sum(values) > self._high >= sum(values) - min(values)
+        return sum(values) > self._high >= sum(values) - min(values)
 
     def bars_in(self, book):
         """Return the bars that the book holds, in their order."""
@@ -73,7 +73,8 @@ class AtMost:
 
     def bars_in(self, book):
         """Return the bars that the book holds, in their order."""
-        return list(combinations(filled_marks(book, self.places), int(self._many) + 1))
+        marks = filled_marks(book, self.places)
+        return list(combinations(marks, int(self._many) + 1))
 
     def reason(self, book):
         """Return the first bar that the book holds, or None."""
@@ -110,7 +111,8 @@ class AtLeast:
 
     def bars_in(self, book):
         """Return the bars that the book holds, in their order."""
-        return list(combinations(empty_marks(book, self.places), int(self._size)))
+        marks = empty_marks(book, self.places)
+        return list(combinations(marks, int(self._size)))
 
     def reason(self, book):
         """Return the first bar that the book holds, or None."""

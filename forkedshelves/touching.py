@@ -8,18 +8,19 @@ def touched(rulebook, deed):
 
 def independent(rulebook, first, second):
     """Tell whether neither of two deeds writes a place that the other one touches."""
-    return not _meets(first, touched(rulebook, second)) and not _meets(second, touched(rulebook, first))
+    # Mates are mutual: if the second deed writes what the first one touches, the first one does the same to it.
+    return not _writes_one_of(first, touched(rulebook, second))
 
 
 def earlier_ties(rulebook, run):
     """Return for each deed of a run the ascending positions of the earlier deeds that are not independent of it."""
-    touches = [touched(rulebook, deed) for deed in run]
     ties = []
     for later, deed in enumerate(run):
-        ties.append([at for at in range(later) if _meets(run[at], touches[later]) or _meets(deed, touches[at])])
+        places = touched(rulebook, deed)
+        ties.append([at for at in range(later) if _writes_one_of(run[at], places)])
     return ties
 
 
-def _meets(deed, places):
+def _writes_one_of(deed, places):
     """Tell whether a deed writes one of the places."""
     return any(place in places for place in deed)

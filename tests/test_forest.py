@@ -187,6 +187,14 @@ class MergeTest(WatchedCase):
         self.assertEqual(state_of(forest), before)
         self.assertEqual(forest.plant([]), 4)
 
+    def test_the_lowest_clash_of_places_that_are_far_apart(self):
+        forest = Forest(8)
+        base = forest.plant([])
+        for number, places in enumerate([[64, 9, 200], [255, 8, 33], [128, 17]]):
+            writes = {place: 1 for place in places}
+            first, second = [forest.write(base, writes, 10 * number + stamp) for stamp in (1, 2)]
+            self.refuse(TreeClash, {"place": min(places)}, forest.merge, base, first, second)
+
     def test_all_three_cases_over_an_unrelated_base(self):
         flat = FlatForest(1)
         forest = Forest(1)

@@ -17,17 +17,27 @@ LIBRARY = {
 BARRED_STATEMENTS = (ast.Global, ast.AsyncFunctionDef, ast.AsyncFor, ast.AsyncWith, ast.Await, ast.Div)
 DUNDERS = {
     "__init__", "__eq__", "__repr__", "__str__", "__enter__", "__exit__", "__call__", "__iter__", "__contains__",
-    "__or__", "__and__", "__sub__", "__add__", "__lt__", "__le__", "__gt__", "__ge__", "__ne__", "__bool__",
+    "__or__", "__and__", "__sub__", "__add__", "__lt__", "__le__", "__gt__", "__ge__", "__ne__", "__bool__", "__len__",
 }
 BUILTINS = {
     "len", "range", "enumerate", "zip", "min", "max", "sum", "abs", "sorted", "reversed", "int", "str", "bool", "list",
-    "tuple", "dict", "set", "isinstance", "ord", "repr", "any", "all", "divmod", "pow", "iter", "next", "map", "super",
-    "Exception", "ValueError", "TypeError", "KeyError", "IndexError", "LookupError", "RuntimeError", "NotImplemented",
+    "tuple", "dict", "set", "frozenset", "isinstance", "ord", "repr", "any", "all", "divmod", "pow", "getattr",
+    "hasattr", "setattr", "iter", "next", "map", "super", "property", "staticmethod", "classmethod", "object",
+    "Exception", "ValueError", "TypeError", "KeyError", "IndexError", "LookupError", "ZeroDivisionError",
+    "ArithmeticError", "OverflowError", "RuntimeError", "NotImplementedError", "AttributeError", "StopIteration",
+    "NotImplemented",
 }
 
 
 def trees():
     return [(path, ast.parse(path.read_text(encoding="utf-8"))) for path in FILES]
+
+
+def defined_in(path):
+    """The names that a file defines itself."""
+    body = ast.parse(path.read_text(encoding="utf-8")).body
+    names = {item.name for item in body if isinstance(item, (ast.FunctionDef, ast.ClassDef))}
+    return names | {name.id for item in body if isinstance(item, ast.Assign) for name in item.targets}
 
 
 class FormTest(unittest.TestCase):
@@ -61,9 +71,7 @@ class FormTest(unittest.TestCase):
                     names = {alias.name for alias in node.names}
                     if node.module.startswith("forkedshelves."):
                         file = PACKAGE / f"{node.module.split('.', 1)[1]}.py"
-                        defined = {item.name for item in ast.parse(file.read_text()).body
-                                   if isinstance(item, (ast.FunctionDef, ast.ClassDef))}
-                        self.assertLessEqual(names, defined, path.name)
+                        self.assertLessEqual(names, defined_in(file), path.name)
                     else:
                         self.assertLessEqual(names, LIBRARY[node.module], path.name)
 

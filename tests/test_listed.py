@@ -27,6 +27,10 @@ class BanTest(WatchedCase):
         self.assertEqual((rule.places, rule.width), ((1, 2, 4, 9), 3))
         self.check(True, rule.is_bar, ((1, 1), (2, 2), (9, 9)))
 
+    def test_places_are_ascending(self):
+        rule = Ban([[(64, 1), (9, 1)], [(200, 1), (33, 1)], [(255, 1), (8, 1), (1, 0)]])
+        self.assertEqual(rule.places, (1, 8, 9, 33, 64, 200, 255))
+
     def test_equal_entries_count_once(self):
         rule = Ban([[(2, 2), (1, 1)], ((1, 1), (2, 2)), [(1, 1), (2, 2)]])
         self.check([((1, 1), (2, 2))], rule.bars_in, {1: 1, 2: 2})

@@ -100,6 +100,13 @@ class RuleBookTest(WatchedCase):
         self.check([], rules.bars_with, (1, 1), (2, 2))
         self.check(["c"], rules.bars_with, (5, 9), (1, 9))
 
+    def test_bars_with_of_every_kind_of_rules(self):
+        rules = RuleBook([("nest", Nest([1, 2])), ("listed", Ban([[(2, 1), (1, 2)]])), ("many", AtMost([1, 2], 1)),
+                          ("few", AtLeast([1, 2], 1)), ("match", Match(2, [1], 1, [0])), ("order", Order(1, 2, 0))])
+        for first, second in [((1, 2), (2, 1)), ((2, 1), (1, 2))]:
+            self.check(["nest", "listed", "many", "match", "order"], rules.bars_with, first, second)
+        self.check(["few"], rules.bars_with, (2, 0), (1, 0))
+
     def test_bars_with_marks_of_the_value_0(self):
         self.check(["link"], self.rules.bars_with, (3, 5), (1, 0))
         self.check(["link"], self.rules.bars_with, (1, 0), (3, 5))

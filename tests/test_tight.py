@@ -52,6 +52,7 @@ class TightForksTest(WatchedCase):
         self.check_tight(Match(4, [1, 2], 7, [5, 6]), ((4, 2), (7, 9999)), [1, 2, 5, 6])
         self.check_tight(Match(4, [0], 7, [5]), ((4, 0), (7, 0)), [0, 5])
         self.check_tight(Match(4, [0, 1, 2, 3, 3], 7, [0]), ((4, 2), (7, 1)), [0, 1, 2, 3])
+        self.check_tight(Match(4, [0, 1, 2], 7, [0]), ((4, 1), (7, 1)), [0, 1, 2])
         self.check_tight(Match(7, [3, 0, 1], 4, [0, 2, 2]), ((4, 1), (7, 0)), [3, 0, 1, 2])
         self.check_tight(Match(7, [1, 0], 4, [9999]), ((4, 1), (7, 0)), [1, 0, 9999])
 

@@ -1,0 +1,80 @@
+"""Points 4 and the interface: the limits, and somewhat beyond them, where the program raises no error."""
+
+import unittest
+
+from forkedshelves.blocks import blocks_with, least_cover
+from forkedshelves.books import changes, holds, value_at, with_writes
+from forkedshelves.compare import agreeing_blocks, differing_places, looked
+from forkedshelves.copying import expected_copies, plan_copies
+from forkedshelves.forest import Forest
+from forkedshelves.listed import Ban
+from forkedshelves.nests import Nest
+from forkedshelves.pairs import Apart, Match, Needs, Order
+from forkedshelves.rulebook import RuleBook
+from forkedshelves.runs import first_run, play_run, stages
+from forkedshelves.sums import AtLeast, AtMost, Total
+from forkedshelves.tight import tight_forks
+
+
+class LimitsTest(unittest.TestCase):
+    def test_large_places_and_values(self):
+        book = with_writes({1000: 5}, {10 ** 9: 10 ** 9})
+        self.assertEqual(value_at(book, 10 ** 9), 10 ** 9)
+        self.assertEqual(changes({1000: 5}, book), {10 ** 9: 10 ** 9})
+        self.assertTrue(holds(book, [(1000, 5), (10 ** 9, 10 ** 9)]))
+        rule = Order(1000, 10 ** 9, 10 ** 12)
+        self.assertEqual(rule.reason(book), ((1000, 5), (10 ** 9, 10 ** 9)))
+
+    def test_rules_with_many_places(self):
+        places = list(range(100, 160))
+        full = {place: place for place in places}
+        self.assertTrue(Apart(places).keeps(full))
+        self.assertEqual(Needs(list(zip(places, places[1:]))).reason({100: 1}), ((100, 1), (101, 0)))
+        self.assertEqual(len(tight_forks(Needs(list(zip(places, places[1:]))), ((100, 1), (101, 0)))[0]), 59)
+        self.assertEqual(Match(1, list(range(60)), 2, list(range(60))).reason({2: 60}), ((1, 0), (2, 60)))
+        ring = {place: place - 98 for place in places}
+        ring[159] = 1
+        self.assertEqual(Nest(places).bars_in(ring), [tuple(sorted(ring.items()))])
+
+    def test_counting_rules_beyond_ten_places(self):
+        places = list(range(13))
+        full = {place: 1 for place in places}
+        self.assertEqual(Total(places, 12).bars_in(full), [tuple(sorted(full.items()))])
+        self.assertEqual(len(Total(places, 3).bars_in(full)), 715)
+        self.assertEqual(len(AtMost(places, 5).bars_in(full)), 1716)
+        self.assertEqual(len(AtLeast(places, 8).bars_in({})), 1716)
+        self.assertEqual(Total(places, 10 ** 7).width, 13)
+
+    def test_a_ban_and_a_rule_book_beyond_the_limits(self):
+        bars = [[(place, value) for place in range(12)] for value in range(50)]
+        rule = Ban(bars)
+        rules = RuleBook([(chr(97 + number) * 30, rule) for number in range(20)])
+        self.assertEqual(len(rules.reasons({})), 20)
+        self.assertEqual(rules.mates(3), [0, 1, 2, 4, 5, 6, 7, 8, 9, 10, 11])
+
+    def test_a_deeper_forest_with_more_trees(self):
+        forest = Forest(10)
+        base = forest.plant([(place, 10 ** 6, 10 ** 7) for place in range(1000)])
+        for stamp in range(1, 70):
+            forest.write(base, {stamp: 10 ** 6}, stamp)
+        self.assertEqual(len(forest.trees()), 70)
+        self.assertEqual(differing_places(forest, 2, 3), [1, 2])
+        self.assertEqual(agreeing_blocks(forest, 1, 2), least_cover(10, [0, *range(2, 1024)]))
+        self.assertEqual(looked(forest, 1, 2), 21)
+        plan = 70
+        for tree in range(69, 1, -1):
+            plan = (tree, plan)
+        groups = [[place] for place in range(1, 70)]
+        self.assertEqual(plan_copies(forest, 1, plan)[1], expected_copies(10, groups))
+        self.assertEqual(len(blocks_with(12, 4095)), 13)
+
+    def test_a_longer_run(self):
+        rules = RuleBook([("unlike", Apart([1, 2, 3]))])
+        run = [{place: 1, place + 100: 0} for place in range(70, 3, -1)]
+        self.assertEqual(len(play_run(rules, {}, run)), 67)
+        self.assertEqual(first_run(rules, run), list(reversed(run)))
+        self.assertEqual(stages(rules, run)[0], [list(range(67))])
+
+
+if __name__ == "__main__":
+    unittest.main()
