@@ -1,16 +1,14 @@
 """Runs of deeds: playing them, their first order, and their stages."""
 
 from forkedshelves.books import with_writes
-from forkedshelves.errors import BrokenRun, Unlawful
+from forkedshelves.errors import BrokenRun
+from forkedshelves.lawful import check_lawful
 from forkedshelves.touching import earlier_ties
 
 
 def play_run(rulebook, book, run):
     """Return the books after each deed of a run, which must keep the book lawful."""
-    broken = rulebook.reason(book)
-    if broken is not None:
-        key, bar = broken
-        raise Unlawful(key, bar)
+    check_lawful(rulebook, book)
     books = []
     current = book
     for position, deed in enumerate(run):

@@ -5,6 +5,7 @@ import inspect
 import unittest
 
 from forkedshelves.forest import Forest
+from forkedshelves.history import History
 from forkedshelves.listed import Ban
 from forkedshelves.nests import Nest
 from forkedshelves.pairs import Apart, Match, Needs, Order
@@ -20,6 +21,16 @@ FUNCTIONS = {
     "copying": {"plan_copies": ["forest", "base", "plan"], "expected_copies": ["depth", "groups"]},
     "touching": {"touched": ["rulebook", "deed"], "independent": ["rulebook", "first", "second"]},
     "runs": {"play_run": ["rulebook", "book", "run"], "first_run": ["rulebook", "run"], "stages": ["rulebook", "run"]},
+    "exchange": {"exchange_plan": ["rulebook", "first", "second"]},
+    "picks": {"rests_on": ["rulebook", "run"], "pick": ["rulebook", "book", "run", "choice"]}
+    | {name: ["rulebook", "run", "choice"] for name in ("with_needed", "with_dependents", "open_place")},
+    "breaking": {"breaking_case": ["rulebook", "run", "choice"]},
+    "heads": {name: ["history", "nodes"] for name in ("past", "clash_of", "merged_book")}
+    | {name: ["history", "nodes", "place"] for name in ("heads", "found_values")},
+    "fates": {"fate": ["history", "nodes", "node", "place"], "bearers": ["history", "nodes", "mark"],
+              "own_places": ["history", "nodes", "position"]},
+    "folds": {"last_common": ["history", "nodes"], "fold": ["history", "nodes"],
+              "value_merge": ["base", "open_places", "first", "second"]},
 }
 RULE = {"is_bar": ["marks"], "keeps": ["book"], "bars_in": ["book"], "reason": ["book"]}
 CLASSES = {
@@ -36,6 +47,10 @@ CLASSES = {
         "plant": ["leaves"], "write": ["tree", "writes", "stamp"], "merge": ["base", "first", "second"],
         "fell": ["tree"], "trees": [], "leaves": ["tree"], "book": ["tree"], "parts": ["tree"],
         "sharers": ["tree", "start", "size"], "part_count": [], "made": []})},
+    "history": {"History": (["rulebook", "book"], {
+        "write": ["parent", "writes"], "merge": ["parents", "answers"], "node_count": [], "parents": ["node"],
+        "written": ["node"], "kind": ["node"], "book": ["node"], "clone": [], "__contains__": ["node"],
+        "__iter__": []})},
 }
 
 
@@ -71,6 +86,10 @@ class InterfaceTest(unittest.TestCase):
         for rule in rules:
             self.assertEqual(rule.places, (1, 2))
             self.assertEqual(rule.width, 2)
+
+    def test_answers_are_passed_by_name(self):
+        answers = inspect.signature(History.merge).parameters["answers"]
+        self.assertEqual([answers.kind, answers.default], [inspect.Parameter.KEYWORD_ONLY, None])
 
     def test_objects_of_one_class_do_not_share_what_they_keep(self):
         forests = [Forest(1), Forest(1)]

@@ -4,12 +4,19 @@ import unittest
 
 from forkedshelves.blocks import blocks_with, least_cover
 from forkedshelves.books import changes, holds, value_at, with_writes
+from forkedshelves.breaking import breaking_case
 from forkedshelves.compare import agreeing_blocks, differing_places, looked
 from forkedshelves.copying import expected_copies, plan_copies
+from forkedshelves.exchange import exchange_plan
+from forkedshelves.fates import bearers, fate
+from forkedshelves.folds import fold, last_common
 from forkedshelves.forest import Forest
+from forkedshelves.heads import heads, merged_book, past
+from forkedshelves.history import History
 from forkedshelves.listed import Ban
 from forkedshelves.nests import Nest
 from forkedshelves.pairs import Apart, Match, Needs, Order
+from forkedshelves.picks import open_place, with_needed
 from forkedshelves.rulebook import RuleBook
 from forkedshelves.runs import first_run, play_run, stages
 from forkedshelves.sums import AtLeast, AtMost, Total
@@ -74,6 +81,37 @@ class LimitsTest(unittest.TestCase):
         self.assertEqual(len(play_run(rules, {}, run)), 67)
         self.assertEqual(first_run(rules, run), list(reversed(run)))
         self.assertEqual(stages(rules, run)[0], [list(range(67))])
+
+    def test_choices_of_a_longer_run(self):
+        rules = RuleBook([("wide", Apart(list(range(12))))])
+        run = [{place % 12: 1, place + 20: 0} for place in range(60)]
+        self.assertEqual(with_needed(rules, run, [59]), list(range(60)))
+        self.assertEqual(open_place(rules, run, list(range(59, 12, -1))), (13, 0, 12))
+        self.assertEqual(len(breaking_case(rules, run, [59])[0]), 60)
+        apart = [{place + 20: 0} for place in range(60)]
+        self.assertEqual(len(exchange_plan(rules, apart, apart[::-1])[1]), 1770)
+
+    def test_a_larger_history(self):
+        history = History(RuleBook([("unlike", Apart([900, 901]))]), {place: 5 for place in range(80)})
+        tips = [history.write(0, {1000 + place: 10 ** 6}) for place in range(12)]
+        for _ in range(40):
+            tips = [history.write(tip, {place: tip}) for place, tip in enumerate(tips)]
+        merged = history.merge(tips)
+        self.assertEqual(history.node_count(), 494)
+        self.assertEqual(len(history.book(merged)), 92)
+        self.assertEqual(merged_book(history, tips), history.book(merged))
+        self.assertEqual(heads(history, [merged, 7], 3), [tips[3]])
+        self.assertEqual(bearers(history, tips, (1000, 10 ** 6)), [0])
+        self.assertEqual(fate(history, [merged], 0, 2), [tips[2]])
+        self.assertEqual(last_common(history, tips), [0])
+
+    def test_a_long_chain(self):
+        history = History(RuleBook([]), {})
+        for node in range(600):
+            history.write(node, {node % 70: node})
+        self.assertEqual(past(history, [600]), list(range(601)))
+        self.assertEqual(fold(history, [600, 300])[0], history.book(300))
+        self.assertEqual(history.clone().node_count(), 601)
 
 
 if __name__ == "__main__":

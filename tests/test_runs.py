@@ -11,6 +11,7 @@ from forkedshelves.runs import first_run, play_run, stages
 from forkedshelves.sums import Total
 from forkedshelves.touching import independent
 from tests.helpers import WatchedCase
+from tests.runcases import random_rulebook, random_run
 
 
 def key_of(run):
@@ -30,17 +31,6 @@ def reached_runs(rulebook, run):
                     found[str(key_of(other))] = other
                     waiting.append(other)
     return list(found.values())
-
-
-def random_rulebook(chance):
-    """A rule book over the places 0 to 7."""
-    rules = [("a", Apart(chance.sample(range(8), chance.randint(0, 3)))),
-             ("b", Needs([tuple(chance.sample(range(8), 2)) for _ in range(chance.randint(0, 1))]))]
-    return RuleBook(rules)
-
-
-def random_run(chance, many, places=8):
-    return [{chance.randrange(places): chance.randint(0, 2) for _ in range(chance.randint(1, 2))} for _ in range(many)]
 
 
 class PlayRunTest(WatchedCase):
