@@ -50,7 +50,7 @@ class Needs:
             if first == second:
                 raise RepeatedPlace(first)
         # A dict keeps the order of first occurrence and drops what comes again.
-        self._pairs = list({(first, second): True for first, second in pairs})
+        self._pairs = {(first, second): True for first, second in pairs}
         self.places = tuple({place: True for pair in self._pairs for place in pair})
         self.width = 2 if self._pairs else 0
 

@@ -1,5 +1,6 @@
 """Histories for tests, and what the document says of them, put as plainly as its words."""
 
+from copy import deepcopy
 from itertools import product
 
 from forkedshelves.errors import NoNode, ShelfError
@@ -127,21 +128,15 @@ def some_nodes(chance, history, most=3):
 class HistoryCase(WatchedCase):
     """Test cases that check that a history stays as it is."""
 
-    def call_on(self, history, function, *args):
-        before = snapshot(history)
-        result = self.call(function, *args)
-        self.assertEqual(snapshot(history), before)
-        return result
-
     def check_on(self, history, expected, function, *args):
         """Check a function that is passed a history first."""
-        before = snapshot(history)
+        before = deepcopy(snapshot(history))
         self.check(expected, function, history, *args)
         self.assertEqual(snapshot(history), before)
 
     def refuse_on(self, history, error, fields, function, *args):
         """Check that a call is refused and that the history stays as it is, and goes on with the next number."""
-        before = snapshot(history)
+        before = deepcopy(snapshot(history))
         self.refuse(error, fields, function, *args)
         self.assertEqual(snapshot(history), before)
 

@@ -2,6 +2,7 @@
 
 import random
 import unittest
+from copy import deepcopy
 
 from forkedshelves.books import with_writes
 from forkedshelves.errors import EmptyDeed, NoNode, PlaceClash, RuleClash, ShelfError, Unlawful
@@ -87,7 +88,7 @@ class WriteTest(HistoryCase):
     def test_what_is_returned_may_be_changed(self):
         self.history.write(0, {2: 4, 9: 1})
         self.history.merge([0, 1], answers={2: 6})
-        before = snapshot(self.history)
+        before = deepcopy(snapshot(self.history))
         spoil(snapshot(self.history))
         self.assertEqual(snapshot(self.history), before)
         # Not even a later node is made of what was changed.

@@ -5,6 +5,7 @@ import inspect
 import unittest
 
 from forkedshelves.forest import Forest
+from forkedshelves.forks import Part
 from forkedshelves.history import History
 from forkedshelves.listed import Ban
 from forkedshelves.nests import Nest
@@ -31,6 +32,14 @@ FUNCTIONS = {
               "own_places": ["history", "nodes", "position"]},
     "folds": {"last_common": ["history", "nodes"], "fold": ["history", "nodes"],
               "value_merge": ["base", "open_places", "first", "second"]},
+    "faults": {"value_faults": ["history", "first", "second"], "base_faults": ["history", "first", "second", "base"],
+               "unserved": ["history", "nodes", "base"]},
+    "twomerge": {"merge_two": ["rulebook", "base", "first", "second"], "sides": ["first", "second", "bar"]},
+    "clashes": {name: ["first", "second"] for name in ("clash_pairs", "inherited_pairs", "merge_parts")},
+    "orders": {"least_clash": ["history", "tips"], "play_order": ["history", "order"],
+               "two_orders": ["history", "tips"], "parting_places": ["history", "first", "second"]},
+    "plans": {"plan_nodes": ["plan"], "play_plan": ["history", "plan"]},
+    "cleanorder": {name: ["history", "tips"] for name in ("clean_order", "stuck_family", "ends")},
 }
 RULE = {"is_bar": ["marks"], "keeps": ["book"], "bars_in": ["book"], "reason": ["book"]}
 CLASSES = {
@@ -51,7 +60,11 @@ CLASSES = {
         "write": ["parent", "writes"], "merge": ["parents", "answers"], "node_count": [], "parents": ["node"],
         "written": ["node"], "kind": ["node"], "book": ["node"], "clone": [], "__contains__": ["node"],
         "__iter__": []})},
+    "forks": {"Fork": (["rulebook", "base", "book"], {
+        "needs": [], "part": ["places"], "inside": ["places"], "whole": [], "all_parts": [], "road": []})},
 }
+PART = {"book": [], "within": ["other"], "__or__": ["other"], "__and__": ["other"], "__contains__": ["place"],
+        "__iter__": []}
 
 
 def module(name):
@@ -79,6 +92,12 @@ class InterfaceTest(unittest.TestCase):
                 for method, passed in methods.items():
                     self.assertIn(method, vars(kind), name)
                     self.check_function(vars(kind)[method], ["self", *passed], f"{name}.{method}")
+
+    def test_parts_stand_in_their_file_and_define_each_method(self):
+        self.assertEqual(Part.__module__, "forkedshelves.forks")
+        for method, passed in PART.items():
+            self.assertIn(method, vars(Part))
+            self.check_function(vars(Part)[method], ["self", *passed], f"Part.{method}")
 
     def test_rules_have_their_attributes_from_the_beginning(self):
         rules = [Apart([1, 2]), Needs([(1, 2)]), Match(1, [1], 2, [1]), Order(1, 2, 0), Total([1, 2], 1),

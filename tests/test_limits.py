@@ -5,18 +5,23 @@ import unittest
 from forkedshelves.blocks import blocks_with, least_cover
 from forkedshelves.books import changes, holds, value_at, with_writes
 from forkedshelves.breaking import breaking_case
+from forkedshelves.clashes import clash_pairs, inherited_pairs, merge_parts
+from forkedshelves.cleanorder import clean_order, ends, stuck_family
 from forkedshelves.compare import agreeing_blocks, differing_places, looked
 from forkedshelves.copying import expected_copies, plan_copies
 from forkedshelves.exchange import exchange_plan
 from forkedshelves.fates import bearers, fate
 from forkedshelves.folds import fold, last_common
 from forkedshelves.forest import Forest
+from forkedshelves.forks import Fork
 from forkedshelves.heads import heads, merged_book, past
 from forkedshelves.history import History
 from forkedshelves.listed import Ban
 from forkedshelves.nests import Nest
+from forkedshelves.orders import least_clash, play_order, two_orders
 from forkedshelves.pairs import Apart, Match, Needs, Order
 from forkedshelves.picks import open_place, with_needed
+from forkedshelves.plans import plan_nodes, play_plan
 from forkedshelves.rulebook import RuleBook
 from forkedshelves.runs import first_run, play_run, stages
 from forkedshelves.sums import AtLeast, AtMost, Total
@@ -112,6 +117,41 @@ class LimitsTest(unittest.TestCase):
         self.assertEqual(past(history, [600]), list(range(601)))
         self.assertEqual(fold(history, [600, 300])[0], history.book(300))
         self.assertEqual(history.clone().node_count(), 601)
+
+    def test_a_fork_with_more_changes(self):
+        rules = RuleBook([("unlike", Apart(list(range(40)))), ("link", Needs([(x, x + 1) for x in range(49)]))])
+        base = {place: 1000 + place for place in range(70)}
+        first = Fork(rules, base, {place: 2000 + place for place in range(70)})
+        second = Fork(rules, base, {place: 2069 - place for place in range(70)})
+        self.assertEqual([len(first.road()), len(first.whole().places)], [70, 70])
+        # Each place clashes with itself, and with the one that has its value where both are apart.
+        self.assertEqual(len(clash_pairs(first, second)), 80)
+        self.assertEqual(len(inherited_pairs(first, second)), 80)
+        self.assertEqual(merge_parts(first.part([3, 60]), second.part([7])), {**base, 3: 2003, 60: 2060, 7: 2062})
+
+    def test_a_ring_of_forty_needs(self):
+        every = [(first, second) for first in range(40) for second in range(40) if first != second]
+        fork = Fork(RuleBook([("link", Needs(every))]), {}, {place: 1 for place in range(40)})
+        self.assertEqual(fork.needs(), every)
+        self.assertEqual([len(part.places) for part in fork.all_parts()], [0, 40])
+
+    def test_more_tips(self):
+        history = History(RuleBook([("small", Total(list(range(8)), 6))]), {place: 1 for place in range(10, 80)})
+        tips = [history.write(0, {place: 1}) for place in range(8)]
+        self.assertEqual(least_clash(history, tips), tips[:7])
+        self.assertEqual(two_orders(history, tips)[1], [*tips[:5], tips[6], tips[5]])
+        self.assertEqual(len(stuck_family(history, tips)), 246)
+        self.assertEqual(clean_order(history, tips[:6]), tips[:6])
+        self.assertEqual(len(ends(history, tips[:6])), 1)
+        self.assertEqual(play_order(history, tips), (tips[:6], tips[6:]))
+
+    def test_a_longer_plan(self):
+        history = History(RuleBook([]), {})
+        plan = 0
+        for place in range(60):
+            plan = (plan, history.write(0, {place: 1}))
+        self.assertEqual(plan_nodes(plan), list(range(61)))
+        self.assertEqual(play_plan(history, plan), {place: 1 for place in range(60)})
 
 
 if __name__ == "__main__":

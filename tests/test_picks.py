@@ -123,8 +123,8 @@ class ChoiceTest(WatchedCase):
                 around = [other for other in closed if set(choice) <= set(other)]
                 self.assertEqual(with_needed(rules, run, shuffled), min(around, key=len))
                 left = [other for other in closed if not set(choice) & set(other)]
-                back = with_dependents(rules, run, shuffled)
-                self.assertEqual([at for at in range(len(run)) if at not in back], max(left, key=len))
+                back = [at for at in range(len(run)) if at not in max(left, key=len)]
+                self.assertEqual(with_dependents(rules, run, shuffled), back)
                 self.check_open_place(rules, run, shuffled)
 
     def check_open_place(self, rules, run, choice):
