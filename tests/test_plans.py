@@ -104,8 +104,15 @@ class PlayPlanTest(HistoryCase):
                 else:
                     self.check_on(history, merged_book(history, tips), play_plan, plan)
                 ends[bool(clashes[-1])] += 1
-            if least_clash(history, tips) is None:
+            clash = least_clash(history, tips)
+            if clash is None:
                 self.assertFalse(any(clashes))
+            else:
+                # The least clash merged first, then the others: this plan clashes, whatever the others answer.
+                plan = clash[0]
+                for tip in [*clash[1:], *[tip for tip in tips if tip not in clash]]:
+                    plan = (plan, tip)
+                self.refuse_on(history, PlanClash, {"nodes": clash}, play_plan, history, plan)
         self.assertGreater(min(ends), 50)
 
     def test_some_plan_clashes_if_there_is_a_least_clash(self):
