@@ -11,7 +11,7 @@ def clash_pairs(first, second):
 
 def inherited_pairs(first, second):
     """Return the ascending list of the pairs of places whose smallest parts have places that clash."""
-    pairs = clash_pairs(first, second)
+    pairs = {pair: True for pair in clash_pairs(first, second)}
     needed = {y: second.part([y]).places for y in second.places}
     inherited = []
     for x in first.places:

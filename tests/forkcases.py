@@ -62,3 +62,49 @@ def model_parts(rules, base, book):
 def model_smallest(parts, places):
     """The smallest part that contains some places."""
     return min([part for part in parts if set(places) <= set(part)], key=len)
+
+
+def model_clashes(rules, base, first, second):
+    pairs = []
+    for x in model_changed(base, first):
+        for y in model_changed(base, second):
+            marks = tuple(sorted([(x, first.get(x, 0)), (y, second.get(y, 0))]))
+            if first.get(x, 0) != second.get(x, 0) if x == y else any(rule.is_bar(marks) for _, rule in rules):
+                pairs.append((x, y))
+    return pairs
+
+
+def model_keepings(rules, base, first, second):
+    """All pairs of tuples of places of two parts, one of each fork, between which nothing clashes."""
+    clashes = model_clashes(rules, base, first, second)
+    return [(one, other) for one in model_parts(rules, base, first) for other in model_parts(rules, base, second)
+            if not any(x in one and y in other for x, y in clashes)]
+
+
+def best_keepings(keepings):
+    """Those that leave out as few changes as possible."""
+    most = max(len(one) + len(other) for one, other in keepings)
+    return [(one, other) for one, other in keepings if len(one) + len(other) == most]
+
+
+def graph_forks(edges, first_needs=(), second_needs=()):
+    """Two forks that change the places 0 to 4, and 10 to 14, with just these clashes and needs."""
+    bans = [[(x, 1), (10 + y, 1)] for x, y in edges]
+    needs = [*first_needs, *[(10 + y, 10 + z) for y, z in second_needs]]
+    rules = RuleBook([("ban", Ban(bans)), ("needs", Needs(needs))])
+    return rules, {}, {x: 1 for x in range(5)}, {10 + y: 1 for y in range(5)}
+
+
+def random_graph_forks(chance):
+    """Two forks of five changes each, with random clashes and needs."""
+    def pairs(most):
+        return [(chance.randrange(5), chance.randrange(5)) for _ in range(chance.randint(0, most))]
+
+    needs = [[(x, y) for x, y in pairs(3) if x != y] for _ in "ab"]
+    case = graph_forks(pairs(7), *needs)
+    return *case, Fork(case[0], case[1], case[2]), Fork(case[0], case[1], case[3])
+
+
+def subsets(things):
+    """All sub-lists of a list, as tuples, those with fewer things first."""
+    return [chosen for many in range(len(things) + 1) for chosen in combinations(things, many)]

@@ -12,18 +12,8 @@ from forkedshelves.pairs import Apart, Needs
 from forkedshelves.rulebook import RuleBook
 from forkedshelves.sums import Total
 from forkedshelves.twomerge import merge_two
-from tests.forkcases import model_book, model_changed, model_parts, model_smallest, random_fork_pair
+from tests.forkcases import model_book, model_clashes, model_parts, model_smallest, random_fork_pair
 from tests.helpers import WatchedCase
-
-
-def model_clashes(rules, base, first, second):
-    pairs = []
-    for x in model_changed(base, first):
-        for y in model_changed(base, second):
-            marks = tuple(sorted([(x, first.get(x, 0)), (y, second.get(y, 0))]))
-            if first.get(x, 0) != second.get(x, 0) if x == y else any(rule.is_bar(marks) for _, rule in rules):
-                pairs.append((x, y))
-    return pairs
 
 
 class ClashPairsTest(WatchedCase):
