@@ -28,6 +28,13 @@ BUILTINS = {
     "NotImplemented",
 }
 
+BUILTIN_METHODS = {name for kind in (str, int, list, dict, set, bytes, tuple) for name in dir(kind)}
+ALLOWED_METHODS = set(
+    "append clear copy count endswith extend find get index insert isalnum isalpha isdigit islower isspace isupper items "
+    "join keys ljust lower lstrip partition pop remove replace reverse rfind rjust rpartition rsplit rstrip setdefault "
+    "split splitlines startswith strip update upper values zfill bit_length isascii isdecimal sort add discard".split())
+TAKE_ITERATORS = {"list", "tuple", "dict", "sum", "min", "max", "any", "all", "enumerate", "zip", "sorted"}
+
 
 def trees():
     return [(path, ast.parse(path.read_text(encoding="utf-8"))) for path in FILES]
@@ -110,6 +117,53 @@ class FormTest(unittest.TestCase):
                 if isinstance(node, ast.Name) and hasattr(builtins, node.id):
                     self.assertIn(node.id, BUILTINS, f"{path.name}: {node.lineno}")
                     self.assertIsInstance(node.ctx, ast.Load, f"{path.name}: {node.lineno}")
+
+    def test_names_inside_functions_are_not_those_of_classes_and_imports(self):
+        import builtins
+        for path, tree in trees():
+            taken = {alias.name for node in tree.body if isinstance(node, ast.ImportFrom) for alias in node.names}
+            taken |= {node.name for node in tree.body if isinstance(node, ast.ClassDef)}
+            for node in ast.walk(tree):
+                if isinstance(node, ast.FunctionDef):
+                    names = {arg.arg for arg in [*node.args.args, *node.args.kwonlyargs]}
+                    names |= {name.id for name in ast.walk(node)
+                              if isinstance(name, ast.Name) and isinstance(name.ctx, ast.Store)}
+                    where = f"{path.name}: {node.name}"
+                    self.assertEqual(names & taken, set(), where)
+                    self.assertEqual([name for name in names if hasattr(builtins, name)], [], where)
+
+    def test_methods_that_are_called(self):
+        own, stored, called = set(), set(), set()
+        for _, tree in trees():
+            for node in ast.walk(tree):
+                if isinstance(node, ast.ClassDef):
+                    own |= {item.name for item in node.body if isinstance(item, ast.FunctionDef)}
+                if isinstance(node, ast.Attribute) and isinstance(node.ctx, ast.Store):
+                    stored.add(node.attr)
+                if isinstance(node, ast.Call) and isinstance(node.func, ast.Attribute):
+                    called.add(node.func.attr)
+        self.assertLessEqual(called, own | ALLOWED_METHODS | {"__init__"})
+        self.assertEqual({name for name in own | stored if name in BUILTIN_METHODS and name not in DUNDERS}, set())
+        self.assertEqual(own & stored, set())
+
+    def test_sets_and_generator_expressions_are_used_at_once(self):
+        for path, tree in trees():
+            above = {child: node for node in ast.walk(tree) for child in ast.iter_child_nodes(node)}
+            for node in ast.walk(tree):
+                user = above.get(node)
+                called = getattr(getattr(node, "func", None), "id", None)
+                if isinstance(node, (ast.Set, ast.SetComp)) or called == "set":
+                    while isinstance(user, ast.BinOp):
+                        user = above[user]
+                    name = getattr(getattr(user, "func", None), "id", None)
+                    self.assertTrue(isinstance(user, (ast.Assign, ast.Compare)) or name in ("sorted", "len"),
+                                    f"{path.name}: {node.lineno}")
+                name = getattr(getattr(user, "func", None), "id", None)
+                if isinstance(node, ast.GeneratorExp):
+                    self.assertIn(name, TAKE_ITERATORS - {"sorted", "enumerate", "zip"}, f"{path.name}: {node.lineno}")
+                if called in ("zip", "enumerate", "reversed"):
+                    self.assertTrue(isinstance(user, (ast.For, ast.comprehension)) or name in TAKE_ITERATORS,
+                                    f"{path.name}: {node.lineno}")
 
     def test_errors_are_created_where_they_are_raised(self):
         for path, tree in trees():

@@ -4,10 +4,14 @@ import importlib
 import inspect
 import unittest
 
+from forkedshelves.desk import Desk
+from forkedshelves.fewest import fewest_given_up
 from forkedshelves.forest import Forest
-from forkedshelves.forks import Part
+from forkedshelves.forks import Fork, Part
 from forkedshelves.history import History
+from forkedshelves.journal import read_journal
 from forkedshelves.listed import Ban
+from forkedshelves.matching import most_disjoint
 from forkedshelves.nests import Nest
 from forkedshelves.pairs import Apart, Match, Needs, Order
 from forkedshelves.rulebook import RuleBook
@@ -40,8 +44,27 @@ FUNCTIONS = {
                "two_orders": ["history", "tips"], "parting_places": ["history", "first", "second"]},
     "plans": {"plan_nodes": ["plan"], "play_plan": ["history", "plan"]},
     "cleanorder": {name: ["history", "tips"] for name in ("clean_order", "stuck_family", "ends")},
+    "matching": {"most_disjoint": ["pairs", "favour"]},
+    "fewest": {"fewest_given_up": ["first", "second", "favour"], "verdicts": ["first", "second"]},
+    "freest": {"questions": ["first", "second"], "choices": ["first", "second", "question"],
+               "freest_merges": ["first", "second"]},
+    "settling": {name: ["rulebook", "base", "forks", "answers"] for name in ("settle", "settled_book")},
+    "items": {"item_rules": ["count"], "arrange": ["book", "count"], "placing": ["item", "position", "content"],
+              "moving": ["item", "position"], "changing": ["item", "content"], "removing": ["item"]},
+    "positions": {"merge_positions": ["base", "first", "second"], "doubled": ["arrangement"]},
+    "papers": {"paper_of": ["history", "nodes"], "orders_paper": ["history", "tips"],
+               "stuck_paper": ["history", "tips"]},
+    "looker": {"accepts": ["history", "nodes", "paper"]},
+    "forkpapers": {"fewest_paper": ["first", "second"], "accepts_fewest": ["first", "second", "paper"],
+                   "settled_paper": ["rulebook", "base", "forks", "answers"],
+                   "accepts_settled": ["rulebook", "base", "forks", "answers", "paper"]},
+    "shelving": {"node_leaves": ["history", "node"], "plant_node": ["forest", "history", "node"],
+                 "shared_blocks": ["history", "depth", "first", "second"]},
+    "lines": {"deed_text": ["deed"], "read_deed": ["text"]},
+    "journal": {"read_journal": ["rulebook", "book", "lines", "depth"]},
 }
 RULE = {"is_bar": ["marks"], "keeps": ["book"], "bars_in": ["book"], "reason": ["book"]}
+PREFERENCE = ["winner", "loser"]
 CLASSES = {
     "listed": {"Ban": (["bars"], RULE)},
     "pairs": {"Apart": (["places"], RULE), "Needs": (["pairs"], RULE),
@@ -62,6 +85,13 @@ CLASSES = {
         "__iter__": []})},
     "forks": {"Fork": (["rulebook", "base", "book"], {
         "needs": [], "part": ["places"], "inside": ["places"], "whole": [], "all_parts": [], "road": []})},
+    "answers": {"Answers": ([], {
+        "prefer": PREFERENCE, "forget": PREFERENCE, "prefers": PREFERENCE, "clone": [], "__iter__": []})},
+    "desk": {"Desk": (["rulebook", "book", "depth"], {
+        "fork": ["name", "source"], "write": ["name", "writes"], "merge": ["name", "others", "answers"],
+        "settle": ["name", "other"], "carry": ["name", "source", "places"], "drop": ["name"], "prefer": PREFERENCE,
+        "forget": PREFERENCE, "names": [], "tip": ["name"], "part_count": [], "steps": [], "undone": [],
+        "book": ["name"], "history": [], "answers": [], "journal": [], "attempt": ["deeds"], "undo": [], "redo": []})},
 }
 PART = {"book": [], "within": ["other"], "__or__": ["other"], "__and__": ["other"], "__contains__": ["place"],
         "__iter__": []}
@@ -106,9 +136,20 @@ class InterfaceTest(unittest.TestCase):
             self.assertEqual(rule.places, (1, 2))
             self.assertEqual(rule.width, 2)
 
-    def test_answers_are_passed_by_name(self):
-        answers = inspect.signature(History.merge).parameters["answers"]
-        self.assertEqual([answers.kind, answers.default], [inspect.Parameter.KEYWORD_ONLY, None])
+    def test_other_objects_have_their_attributes_from_the_beginning(self):
+        rules = RuleBook([])
+        self.assertIs(History(rules, {}).rulebook, rules)
+        fork = Fork(rules, {}, {3: 1, 1: 1})
+        self.assertEqual([fork.places, fork.whole().places, fork.part([3]).places], [(1, 3), (1, 3), (3,)])
+
+    def test_what_is_passed_by_name(self):
+        for function, name, default in [(History.merge, "answers", None), (Desk.merge, "answers", None),
+                                        (Desk, "depth", 8), (read_journal, "depth", 8), (most_disjoint, "favour", "first"),
+                                        (fewest_given_up, "favour", "first")]:
+            found = inspect.signature(function).parameters
+            self.assertEqual([found[name].kind, found[name].default], [inspect.Parameter.KEYWORD_ONLY, default])
+            others = [parameter for parameter in found.values() if parameter.name != name]
+            self.assertTrue(all(parameter.default is inspect.Parameter.empty for parameter in others))
 
     def test_objects_of_one_class_do_not_share_what_they_keep(self):
         forests = [Forest(1), Forest(1)]

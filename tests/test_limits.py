@@ -2,6 +2,7 @@
 
 import unittest
 
+from forkedshelves.answers import Answers
 from forkedshelves.blocks import blocks_with, least_cover
 from forkedshelves.books import changes, holds, value_at, with_writes
 from forkedshelves.breaking import breaking_case
@@ -9,21 +10,32 @@ from forkedshelves.clashes import clash_pairs, inherited_pairs, merge_parts
 from forkedshelves.cleanorder import clean_order, ends, stuck_family
 from forkedshelves.compare import agreeing_blocks, differing_places, looked
 from forkedshelves.copying import expected_copies, plan_copies
+from forkedshelves.desk import Desk
+from forkedshelves.errors import BadLine
 from forkedshelves.exchange import exchange_plan
 from forkedshelves.fates import bearers, fate
+from forkedshelves.fewest import fewest_given_up, verdicts
 from forkedshelves.folds import fold, last_common
 from forkedshelves.forest import Forest
+from forkedshelves.forkpapers import accepts_fewest, accepts_settled, fewest_paper, settled_paper
 from forkedshelves.forks import Fork
+from forkedshelves.freest import choices, freest_merges, questions
 from forkedshelves.heads import heads, merged_book, past
 from forkedshelves.history import History
+from forkedshelves.journal import read_journal
+from forkedshelves.lines import deed_text, read_deed
 from forkedshelves.listed import Ban
+from forkedshelves.looker import accepts
 from forkedshelves.nests import Nest
 from forkedshelves.orders import least_clash, play_order, two_orders
 from forkedshelves.pairs import Apart, Match, Needs, Order
+from forkedshelves.papers import orders_paper, paper_of, stuck_paper
 from forkedshelves.picks import open_place, with_needed
 from forkedshelves.plans import plan_nodes, play_plan
 from forkedshelves.rulebook import RuleBook
 from forkedshelves.runs import first_run, play_run, stages
+from forkedshelves.settling import settle
+from forkedshelves.shelving import shared_blocks
 from forkedshelves.sums import AtLeast, AtMost, Total
 from forkedshelves.tight import tight_forks
 
@@ -152,6 +164,71 @@ class LimitsTest(unittest.TestCase):
             plan = (plan, history.write(0, {place: 1}))
         self.assertEqual(plan_nodes(plan), list(range(61)))
         self.assertEqual(play_plan(history, plan), {place: 1 for place in range(60)})
+
+    def test_more_given_up(self):
+        first = Fork(RuleBook([]), {}, {place: 1 for place in range(60)})
+        second = Fork(RuleBook([]), {}, {place: 1 + place % 2 for place in range(60)})
+        odd = list(range(1, 60, 2))
+        self.assertEqual(fewest_given_up(first, second)[:2], ([], odd))
+        self.assertEqual(verdicts(first, second)[1], {place: "either" if place in odd else "kept" for place in range(60)})
+        self.assertTrue(accepts_fewest(first, second, fewest_paper(first, second)))
+
+    def test_a_question_of_more_places(self):
+        rules = RuleBook([("ban", Ban([[(x, 1), (20 + y, 1)] for x in range(12) for y in range(12) if x != y]))])
+        first = Fork(rules, {}, {place: 1 for place in range(12)})
+        second = Fork(rules, {}, {20 + place: 1 for place in range(12)})
+        asked = questions(first, second)
+        self.assertEqual(asked, [(list(range(12)), list(range(20, 32)))])
+        self.assertEqual(len(choices(first, second, asked[0])), 14)
+        self.assertEqual(len(freest_merges(first, second)), 14)
+
+    def test_more_forks_to_settle(self):
+        answers = Answers()
+        for winner in range(1, 9):
+            for loser in range(1, winner):
+                answers.prefer((5, winner), (5, loser))
+        args = RuleBook([]), {}, [{5: value, 10 + value: 1} for value in range(1, 9)], answers
+        self.assertEqual(settle(*args), [*[[10 + value] for value in range(1, 8)], [5, 18]])
+        self.assertTrue(accepts_settled(*args, settled_paper(*args)))
+
+    def test_papers_of_more_tips(self):
+        history = History(RuleBook([("small", Total(list(range(8)), 6))]), {})
+        tips = [history.write(0, {place: 1}) for place in range(8)]
+        for paper in (paper_of(history, tips), orders_paper(history, tips), stuck_paper(history, tips)):
+            self.assertTrue(accepts(history, tips, paper))
+        self.assertEqual(shared_blocks(history, 10, tips[0], tips[1]), [(2, 2), (4, 4), (8, 8), (16, 16), (32, 32),
+                                                                        (64, 64), (128, 128), (256, 256), (512, 512)])
+
+    def test_longer_names_and_numbers(self):
+        name = "abcdefghij" * 3
+        desk = Desk(RuleBook([]), {1000: 20000})
+        self.assertEqual(desk.fork(name, "main"), 0)
+        self.assertEqual(desk.write(name, {1000: 10 ** 7}), 1)
+        self.assertEqual([desk.merge("main", [name]), desk.names()], [1, [name, "main"]])
+        lines = [f"fork {name} main", f"write {name} 1000=10000000", f"merge main {name} *"]
+        self.assertEqual(desk.journal(), lines)
+        self.assertEqual(deed_text(("drop", name)), f"drop {name}")
+        # The form of the text has these bounds itself, so such a journal cannot be read back.
+        with self.assertRaises(BadLine) as caught:
+            read_journal(RuleBook([]), {}, lines)
+        self.assertEqual(caught.exception.number, 1)
+
+    def test_longer_lists_in_texts(self):
+        names, places = ["a" * 20] * 100, list(range(300))
+        for deed in [("merge", "b", names, {}), ("carry", "a", "b", places), ("write", "a", {at: at for at in places})]:
+            self.assertEqual(read_deed(deed_text(deed)), deed)
+
+    def test_a_desk_with_more_forks_and_deeds(self):
+        desk = Desk(RuleBook([]), {})
+        names = [chr(97 + number) * 3 for number in range(12)]
+        for place, name in enumerate(names):
+            desk.fork(name, "main")
+            desk.write(name, {place: 1})
+        self.assertEqual(desk.merge("main", names), 13)
+        for number in range(60):
+            self.assertEqual(desk.write("main", {number: 2}), 14 + number)
+        self.assertEqual([desk.steps(), len(desk.journal())], [85, 85])
+        self.assertEqual(read_journal(RuleBook([]), {}, desk.journal()).book("main"), desk.book("main"))
 
 
 if __name__ == "__main__":
